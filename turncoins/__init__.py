@@ -1,0 +1,1 @@
+"""Turncoins: coins that may lie both ways at once."""
