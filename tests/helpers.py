@@ -1,7 +1,8 @@
-"""What several tests need: lists to try, all gates, and the document's own words on gates, told another way."""
+"""What several tests need: lists, rows and gates to try, and the document's own words on them, told another way."""
 
 from fractions import Fraction
-from itertools import product
+from functools import lru_cache
+from itertools import combinations, product
 from math import gcd
 
 COIN_COUNTS = (1, 2, 3, 4, 5, 6)
@@ -100,8 +101,8 @@ def change_places(table, pairs):
         table[one], table[other] = table[other], table[one]
 
 
-def plain_turned(numbers, gate):
-    """What point 5 says, pair of places by pair of places, over a table of how the coins lie."""
+def raw_turned(numbers, gate):
+    """What point 5 says, pair of places by pair of places, over a table of how the coins lie; not in least form."""
     table = by_sides(numbers)
     word, coins = gate[0], gate[1:]
     last = coins[-1]
@@ -124,4 +125,232 @@ def plain_turned(numbers, gate):
     elif word == "swap":
         alone = [sides for sides in table if sides[coins[0]] == 1 and sides[coins[1]] == 0]
         change_places(table, [(sides, laid_so(laid_so(sides, coins[0], 0), coins[1], 1)) for sides in alone])
-    return plain_least(by_places(table))
+    return by_places(table)
+
+
+def plain_turned(numbers, gate):
+    return plain_least(raw_turned(numbers, gate))
+
+
+def unit_lists(coins):
+    return [[1 if place == at else 0 for place in range(2 ** coins)] for at in range(2 ** coins)]
+
+
+def all_rows(coins):
+    return [(sign, xs, zs) for sign in (1, -1) for xs in range(2 ** coins) for zs in range(2 ** coins)]
+
+
+def rows_to_try(coins, many=40, seed=0):
+    """All rows of one or two coins, else some of them, those without xs, without zs and without both among them."""
+    if coins <= 2:
+        return all_rows(coins)
+    numbers = Numbers(1000 * seed + coins)
+    top = 2 ** coins - 1
+    tried = [(1, 0, 0), (-1, 0, 0), (1, top, 0), (-1, 0, top), (1, top, top), (-1, top, top), (-1, 1, top), (1, top, 1)]
+    return tried + [any_row(coins, numbers) for times in range(many - len(tried))]
+
+
+def any_row(coins, numbers):
+    return (numbers.choice((1, -1)), numbers.below(2 ** coins), numbers.below(2 ** coins))
+
+
+def minus(row):
+    return (-row[0], row[1], row[2])
+
+
+def coins_in_common(one, other):
+    return len([coin for coin in range(12) if one // 2 ** coin % 2 == 1 and other // 2 ** coin % 2 == 1])
+
+
+@lru_cache(maxsize=None)
+def sendings(row, coins):
+    """Point 7 as a table: for each place the place that its number is sent to, and what it is multiplied with."""
+    sign, xs, zs = row
+    return tuple((place ^ xs, sign * (-1) ** coins_in_common(place, zs)) for place in range(2 ** coins))
+
+
+def plain_laid(numbers, row):
+    coming = [None] * len(numbers)
+    for number, (place, times) in zip(numbers, sendings(row, len(numbers).bit_length() - 1)):
+        coming[place] = times * number
+    return coming
+
+
+@lru_cache(maxsize=None)
+def plain_product(one, other):
+    """The row that is read off the two tables, walked one behind the other."""
+    coins = max(1, *[bits.bit_length() for bits in one[1:] + other[1:]])
+    first, then = sendings(other, coins), sendings(one, coins)
+    both = [(then[place][0], times * then[place][1]) for place, times in first]
+    zs = sum(2 ** coin for coin in range(coins) if both[2 ** coin][1] != both[0][1])
+    return (both[0][1], both[0][0], zs)
+
+
+def plain_agree(one, other):
+    return plain_product(one, other) == plain_product(other, one)
+
+
+def plain_even(row):
+    return plain_product(row, row) == (1, 0, 0)
+
+
+def product_in_order(rows):
+    coming = (1, 0, 0)
+    for row in rows:
+        coming = plain_product(coming, row)
+    return coming
+
+
+def subsets(many):
+    """All sets of numbers below so many, as rising lists, the small ones first."""
+    return [list(which) for size in range(many + 1) for which in combinations(range(many), size)]
+
+
+def plain_products(rows):
+    """All products of free rows: a dict from the product to the numbers of the rows that it is made of."""
+    return {product_in_order([rows[at] for at in which]): which for which in subsets(len(rows))}
+
+
+def no_letters(row):
+    return row[1:] == (0, 0)
+
+
+def stands_free(rows):
+    if not all(plain_even(row) for row in rows):
+        return False
+    if not all(plain_agree(one, other) for one, other in combinations(rows, 2)):
+        return False
+    return not any(no_letters(product_in_order([rows[at] for at in which])) for which in subsets(len(rows))[1:])
+
+
+def free_rows(coins, many, seed=0):
+    """So many free rows, drawn one by one and kept where they may stand beside those before."""
+    numbers = Numbers(10000 * seed + 100 * coins + many)
+    kept, products = [], [(1, 0, 0)]
+    while len(kept) < many:
+        row = any_row(coins, numbers)
+        if plain_even(row) and all(plain_agree(row, other) for other in kept):
+            if row not in products and minus(row) not in products:
+                kept.append(row)
+                products += [plain_product(one, row) for one in products]
+    return kept
+
+
+def multiplied_with_one_another(rows, seed=0):
+    """Other free rows with the same products: some multiplied with others, and in another order."""
+    numbers = Numbers(seed)
+    coming = list(rows)
+    for times in range(3 * len(rows)):
+        one, other = numbers.below(len(rows)), numbers.below(len(rows))
+        if one != other:
+            coming[one] = plain_product(coming[one], coming[other])
+            coming[one], coming[other] = coming[other], coming[one]
+    return coming
+
+
+def columns(row, coins):
+    return [bits // 2 ** coin % 2 for bits in row[1:] for coin in range(coins)]
+
+
+def is_least_form(rows, coins):
+    leads = [columns(row, coins).index(1) for row in rows]
+    alone = all(columns(row, coins)[lead] == 0 for at, lead in enumerate(leads)
+                for other, row in enumerate(rows) if other != at)
+    return leads == sorted(leads) and alone
+
+
+def plain_least_rows(rows, coins):
+    """Point 13, picked from all products: of those with a leading column the one that is 0 in the leads of others."""
+    products = [row for row in plain_products(rows) if not no_letters(row)]
+    leads = sorted({columns(row, coins).index(1) for row in products})
+    least = []
+    for lead in leads:
+        least += [row for row in products if [columns(row, coins)[other] for other in leads]
+                  == [1 if other == lead else 0 for other in leads]]
+    return least
+
+
+def list_kept_by(rows):
+    """The one list in least form that all rows keep: what is left of a list with a single 1 by the rows laid on it."""
+    for numbers in unit_lists(len(rows)):
+        for row in rows:
+            numbers = [a + b for a, b in zip(numbers, plain_laid(numbers, row))]
+        if any(numbers):
+            return plain_least(numbers)
+    raise AssertionError(f"no list is kept by {rows}")
+
+
+def keeps(row, numbers):
+    return plain_laid(numbers, row) == numbers
+
+
+class Odd:
+    """A thing of another kind that says yes to every comparison and can't stand in a dict."""
+
+    __hash__ = None
+
+    def __eq__(self, other):
+        return True
+
+    def __lt__(self, other):
+        return True
+
+    __le__ = __gt__ = __ge__ = __lt__
+
+
+class Loud:
+    """A thing of another kind that can't be compared at all."""
+
+    def __eq__(self, other):
+        raise RuntimeError("compared")
+
+    __hash__ = None
+
+
+NO_WORDS = ("", "Mix", "MIX", "mix ", " mix", "mi", "mixed", "turn", "look", "x", "0", None, True, False, 0, 1, -1, 0.5,
+            b"mix", [], ["mix"], (), ("mix",), {}, {"mix": 0}, set(), frozenset({"mix"}), object(), str, Odd(), Loud())
+NO_COINS = (-1, -2, -6, -GREAT, 6, 7, 64, GREAT, 10 ** 5000, True, False, "0", "1", "", "c", None, (), (0,), [], [0],
+            {}, set(), 0.0, 1.0, 0.5, 0j, b"0", object(), int, Odd(), Loud())
+
+
+def wrong_words():
+    gates = [()]
+    for word in NO_WORDS:
+        gates += [(word,), (word, 0), (word, 0, 1)]
+    gates += [(0, "mix"), (0, 1), (0,)]
+    return gates
+
+
+def wrong_numbers_of_parts():
+    gates = []
+    for word in ("mix", "flip", "sign"):
+        gates += [(word,), (word, 0, 1), (word, 0, 0), (word, 0, None), (word, 0, 1, 2)]
+    for word in ("follow", "meet", "swap"):
+        gates += [(word,), (word, 0), (word, 0, 1, 2), (word, 0, 1, None), (word, 0, 1, 2, 3)]
+    return gates
+
+
+def wrong_coins():
+    gates = []
+    for coin in NO_COINS:
+        gates += [(word, coin) for word in ("mix", "flip", "sign")]
+        for word in ("follow", "meet", "swap"):
+            gates += [(word, coin, 0), (word, 0, coin), (word, coin, coin)]
+    return gates
+
+
+def same_coins(coins):
+    return [(word, coin, coin) for word in ("follow", "meet", "swap") for coin in range(coins)]
+
+
+def coins_beyond(coins):
+    gates = []
+    for coin in (coins, coins + 1, 2 ** coins):
+        gates += [(word, coin) for word in ("mix", "flip", "sign")]
+        for word in ("follow", "meet", "swap"):
+            gates += [(word, coin, 0), (word, 0, coin), (word, coins - 1, coin), (word, coin, coin)]
+    return gates
+
+
+def no_gates(coins):
+    return wrong_words() + wrong_numbers_of_parts() + wrong_coins() + same_coins(coins) + coins_beyond(coins)

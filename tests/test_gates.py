@@ -1,82 +1,10 @@
 import unittest
 
-from tests.helpers import (COIN_COUNTS, GREAT, WRONG_LENGTHS, all_gates, lists_to_try, plain_least, plain_overlap,
-                           plain_turned, row_of_gates)
+from tests.helpers import (COIN_COUNTS, GREAT, WRONG_LENGTHS, all_gates, lists_to_try, no_gates, plain_least,
+                           plain_overlap, plain_turned, row_of_gates)
 from turncoins.errors import NoGate, NoList
 from turncoins.gates import turned, turned_by
 from turncoins.lists import first_list, least
-
-
-class Odd:
-    """A thing of another kind that says yes to every comparison and can't stand in a dict."""
-
-    __hash__ = None
-
-    def __eq__(self, other):
-        return True
-
-    def __lt__(self, other):
-        return True
-
-    __le__ = __gt__ = __ge__ = __lt__
-
-
-class Loud:
-    """A thing of another kind that can't be compared at all."""
-
-    def __eq__(self, other):
-        raise RuntimeError("compared")
-
-    __hash__ = None
-
-
-NO_WORDS = ("", "Mix", "MIX", "mix ", " mix", "mi", "mixed", "turn", "look", "x", "0", None, True, False, 0, 1, -1, 0.5,
-            b"mix", [], ["mix"], (), ("mix",), {}, {"mix": 0}, set(), frozenset({"mix"}), object(), str, Odd(), Loud())
-NO_COINS = (-1, -2, -6, -GREAT, 6, 7, 64, GREAT, 10 ** 5000, True, False, "0", "1", "", "c", None, (), (0,), [], [0],
-            {}, set(), 0.0, 1.0, 0.5, 0j, b"0", object(), int, Odd(), Loud())
-
-
-def wrong_words():
-    gates = [()]
-    for word in NO_WORDS:
-        gates += [(word,), (word, 0), (word, 0, 1)]
-    gates += [(0, "mix"), (0, 1), (0,)]
-    return gates
-
-
-def wrong_numbers_of_parts():
-    gates = []
-    for word in ("mix", "flip", "sign"):
-        gates += [(word,), (word, 0, 1), (word, 0, 0), (word, 0, None), (word, 0, 1, 2)]
-    for word in ("follow", "meet", "swap"):
-        gates += [(word,), (word, 0), (word, 0, 1, 2), (word, 0, 1, None), (word, 0, 1, 2, 3)]
-    return gates
-
-
-def wrong_coins():
-    gates = []
-    for coin in NO_COINS:
-        gates += [(word, coin) for word in ("mix", "flip", "sign")]
-        for word in ("follow", "meet", "swap"):
-            gates += [(word, coin, 0), (word, 0, coin), (word, coin, coin)]
-    return gates
-
-
-def same_coins(coins):
-    return [(word, coin, coin) for word in ("follow", "meet", "swap") for coin in range(coins)]
-
-
-def coins_beyond(coins):
-    gates = []
-    for coin in (coins, coins + 1, 2 ** coins):
-        gates += [(word, coin) for word in ("mix", "flip", "sign")]
-        for word in ("follow", "meet", "swap"):
-            gates += [(word, coin, 0), (word, 0, coin), (word, coins - 1, coin), (word, coin, coin)]
-    return gates
-
-
-def no_gates(coins):
-    return wrong_words() + wrong_numbers_of_parts() + wrong_coins() + same_coins(coins) + coins_beyond(coins)
 
 
 class Turned(unittest.TestCase):

@@ -12,6 +12,7 @@ import unittest
 from pathlib import Path
 
 PACKAGE = Path(__file__).resolve().parent.parent / "turncoins"
+FILES = {"__init__.py", "errors.py", "lists.py", "gates.py", "rows.py", "looks.py", "spans.py", "shorts.py"}
 
 CALLED_NAMES = """len range enumerate zip min max sum abs sorted reversed int str bool list tuple dict set frozenset
     isinstance ord repr any all divmod""".split()
@@ -24,11 +25,22 @@ CHANGING = "append clear extend insert pop remove reverse setdefault update".spl
 OWN_METHODS = "__init__ __eq__ __repr__ __str__ __len__".split()
 UNUSED_NAMES = """register mro elements open input version_info with_traceback add_note format format_map f_back
     tb_next co_names""".split()
+FRAME_NAMES = re.compile("(f|tb|co|gi|cr|ag)_(back|next|names|code|frame|lineno|lasti|locals|globals|builtins|trace|"
+                         "consts|varnames|freevars|cellvars|filename|name|flags|argcount|running|yieldfrom|await)")
+NAMES_NOT_GIVEN = "attrgetter builtins gc importlib methodcaller os sys".split()
 UNUSED_WORDS = re.compile(r"\b(type|typing|typing_extensions|enum|Enum|IntEnum|StrEnum|Flag|IntFlag|Generic|Protocol|"
                           r"ABC|ABCMeta|namedtuple|NamedTuple|TypedDict|TYPE_CHECKING|abstractmethod)\b|"
                           r"dataclass|overload|contextmanager")
 VALUES_NOT_SO_CALLED = """items keys values pop update append clear extend insert remove reverse setdefault sort args
     encode format""".split()
+VALUES_SO_CALLED = "count index title find get join lower upper split strip copy add".split()
+NAMES_OF_PYTHONS_VALUES = {name for kind in (str, int, list, dict, set, bytes) for name in dir(kind)}
+READERS = "len sorted list tuple dict sum min max any all enumerate zip reversed set".split()
+READING = "get items keys values index count copy".split()
+KEYWORDS = {"sorted": ("key", "reverse"), "min": ("key", "default"), "max": ("key", "default"), "sum": ("start",),
+            "enumerate": ("start",), "zip": ("strict",)}
+KEYS = "len int str abs sum min max tuple".split()
+KINDS_ASKED = "int str bool list tuple dict".split() + ERROR_NAMES
 STATEMENTS = (ast.FunctionDef, ast.ClassDef, ast.ImportFrom, ast.Assign, ast.AugAssign, ast.If, ast.While, ast.For,
               ast.Return, ast.Break, ast.Continue, ast.Pass, ast.Raise, ast.Try, ast.Expr)
 EXPRESSIONS = (ast.Constant, ast.List, ast.Tuple, ast.Dict, ast.Set, ast.BinOp, ast.UnaryOp, ast.BoolOp, ast.Compare,
@@ -363,20 +375,171 @@ def changed_while_walked(file):
                         yield "L23", node.lineno
 
 
+def lambdas_on_one_line(file):
+    seen = []
+    for node in file.nodes(ast.Lambda):
+        told = (node.lineno, [arg.arg for arg in node.args.args])
+        if told in seen:
+            yield "L13", node.lineno
+        seen.append(told)
+
+
+def tops_handed_on(file):
+    """A list or dict of the file's top is only read: each place where its name stands is one that reads."""
+    kept = [node.targets[0].id for node in file.tree.body if isinstance(node, ast.Assign)
+            and isinstance(node.value, (ast.List, ast.Dict)) and isinstance(node.targets[0], ast.Name)]
+    for node in file.nodes(ast.Name):
+        if node.id not in kept or not isinstance(node.ctx, ast.Load):
+            continue
+        above = file.parents[node]
+        reads = (isinstance(above, ast.Subscript) and above.value is node or isinstance(above, ast.Compare)
+                 or isinstance(above, (ast.For, ast.comprehension)) and above.iter is node
+                 or isinstance(above, ast.Call) and is_name(above.func, *READERS)
+                 or isinstance(above, ast.Attribute) and above.attr in READING)
+        if not reads:
+            yield "L15", node.lineno
+
+
+def use_of_classes(file, own_classes):
+    for node in file.nodes(ast.Name):
+        if node.id not in own_classes or not isinstance(node.ctx, ast.Load):
+            continue
+        above = file.parents[node]
+        outer = file.parents[above] if isinstance(above, ast.Tuple) else above
+        fits = (isinstance(above, ast.Call) and above.func is node or isinstance(above, (ast.ClassDef, ast.Raise))
+                or isinstance(outer, ast.ExceptHandler)
+                or isinstance(outer, ast.Call) and is_name(outer.func, "isinstance")
+                or isinstance(above, ast.Attribute) and above.attr == "__init__")
+        if not fits:
+            yield "L18", node.lineno
+    for node in file.nodes(ast.Attribute):
+        if isinstance(node.ctx, ast.Store) and is_name(node.value, *own_classes, *file.tops, *file.imported):
+            yield "L18", node.lineno
+
+
+def handlers(file):
+    """ValueError and LookupError are taken round int, str, index and remove alone, IndexError round an index alone."""
+    for node in file.nodes(ast.Try):
+        taken = [part.id for handler in node.handlers if handler.type for part in ast.walk(handler.type)
+                 if isinstance(part, ast.Name)]
+        calls_allowed = ("int", "str") if "ValueError" in taken or "LookupError" in taken else ()
+        if not calls_allowed and "IndexError" not in taken:
+            continue
+        for part in [inner for line in node.body for inner in ast.walk(line)]:
+            if isinstance(part, (ast.JoinedStr, ast.Slice, ast.Lambda)):
+                yield "L19", part.lineno if hasattr(part, "lineno") else node.lineno
+            elif isinstance(part, ast.Call) and not is_name(part.func, *calls_allowed):
+                called = part.func.attr if isinstance(part.func, ast.Attribute) else ""
+                if not calls_allowed or called not in ("index", "remove"):
+                    yield "L19", part.lineno
+            elif isinstance(part, ast.BinOp):
+                if isinstance(part.op, (ast.Mult, ast.Pow, ast.Mod, ast.LShift, ast.RShift)):
+                    yield "L19", part.lineno
+    for node in file.nodes(ast.Raise):
+        if node.cause is not None:
+            above = file.parents[node]
+            while not isinstance(above, (ast.ExceptHandler, ast.Module)):
+                above = file.parents[above]
+            if not (isinstance(node.cause, ast.Constant) and node.cause.value is None):
+                if not (isinstance(above, ast.ExceptHandler) and is_name(node.cause, above.name)):
+                    yield "L19", node.lineno
+
+
+def keywords(file, own_classes):
+    for node in file.nodes(ast.Call):
+        called = node.func.id if isinstance(node.func, ast.Name) else None
+        if called == "isinstance":
+            kinds = node.args[1].elts if isinstance(node.args[1], ast.Tuple) else [node.args[1]]
+            if not all(is_name(kind, *KINDS_ASKED, *own_classes) for kind in kinds):
+                yield "L22", node.lineno
+        pythons_own = called in CALLED_NAMES + ERROR_NAMES
+        if isinstance(node.func, ast.Attribute) and node.func.attr in METHODS:
+            pythons_own = True
+        for word in node.keywords:
+            if pythons_own and word.arg not in KEYWORDS.get(called, ()):
+                yield "L22", node.lineno
+            elif pythons_own and word.arg in ("reverse", "strict"):
+                if not (isinstance(word.value, ast.Constant) and isinstance(word.value.value, bool)):
+                    yield "L22", node.lineno
+            elif pythons_own and word.arg == "key" and is_name(word.value, *CALLED_NAMES):
+                if word.value.id not in KEYS:
+                    yield "L22", node.lineno
+
+
+def sets_kept(file):
+    for node in file.nodes(ast.Call):
+        if not is_name(node.func, "set", "frozenset"):
+            continue
+        above = file.parents[node]
+        while isinstance(above, ast.BinOp) and isinstance(above.op, (ast.Sub, ast.BitAnd, ast.BitOr, ast.BitXor)):
+            above = file.parents[above]
+        sized = isinstance(above, ast.Call) and is_name(above.func, "sorted", "len") and not above.keywords
+        if not sized and not isinstance(above, ast.Compare):
+            yield "L24", node.lineno
+
+
+def names_of_pythons_values(file):
+    for owner in file.classes:
+        for part in owner.body:
+            if isinstance(part, ast.FunctionDef) and part.name not in METHODS + OWN_METHODS + ["add", "discard"]:
+                if part.name in NAMES_OF_PYTHONS_VALUES:
+                    yield "L26", part.lineno
+    for node in file.nodes(ast.Attribute):
+        if isinstance(node.ctx, ast.Store) and node.attr not in VALUES_SO_CALLED:
+            if node.attr in NAMES_OF_PYTHONS_VALUES:
+                yield "L26", node.lineno
+
+
+def names_not_used(file):
+    for name, node in bound_names(file):
+        if name in NAMES_NOT_GIVEN or FRAME_NAMES.fullmatch(name):
+            yield "L17", node.lineno
+    for node in file.nodes(ast.Attribute):
+        if FRAME_NAMES.fullmatch(node.attr):
+            yield "L17", node.lineno
+
+
+def methods_that_show(file):
+    for owner in file.classes:
+        for part in owner.body:
+            if not isinstance(part, ast.FunctionDef) or part.name not in OWN_METHODS[1:]:
+                continue
+            for node in ast.walk(part):
+                stores = isinstance(node, ast.Attribute) and isinstance(node.ctx, ast.Store)
+                changes = isinstance(node, ast.Attribute) and node.attr in CHANGING
+                if stores or changes or isinstance(node, ast.AugAssign):
+                    yield "L28", node.lineno
+                if isinstance(node, ast.Return) and part.name == "__len__":
+                    if not (isinstance(node.value, ast.Constant)
+                            or isinstance(node.value, ast.Call) and is_name(node.value.func, "len")):
+                        yield "L28", node.lineno
+
+
+def long_numbers(file):
+    for number, line in enumerate(file.text.split("\n"), 1):
+        if re.search("[0-9]{901}", line.replace("_", "")):
+            yield "L27", number
+
+
 def package_faults(texts):
     """The rules broken by a package, told as a dict from file names to texts: triples of rule, file and line."""
     files = [File(name, text) for name, text in texts.items()]
     own_methods = [part.name for file in files for node in file.classes for part in node.body
                    if isinstance(part, ast.FunctionDef)]
     own_values = [node.attr for file in files for node in file.nodes(ast.Attribute) if isinstance(node.ctx, ast.Store)]
+    own_classes = [node.name for file in files for node in file.classes]
     found = list(drawn_in_a_ring(files))
     found += [("L18", "", 0) for name in own_methods if name in own_values]
     for file in files:
         for rule in (signs_and_size, file_name, top_of_module, functions, classes, statements, expressions,
-                     numbers_and_texts, names, nothing_kept_at_the_top, changed_while_walked):
+                     numbers_and_texts, names, nothing_kept_at_the_top, changed_while_walked, lambdas_on_one_line,
+                     tops_handed_on, handlers, sets_kept, names_of_pythons_values, names_not_used, methods_that_show,
+                     long_numbers):
             found += [(number, file.name, line) for number, line in rule(file)]
         found += [(number, file.name, line) for number, line in imports(file, files)]
         found += [(number, file.name, line) for number, line in calls(file, own_methods, own_values)]
+        found += [(number, file.name, line) for number, line in use_of_classes(file, own_classes)]
+        found += [(number, file.name, line) for number, line in keywords(file, own_classes)]
     return found
 
 
@@ -387,7 +550,7 @@ def parts_of_package():
 class Package(unittest.TestCase):
     def test_it_keeps_to_the_rules(self):
         texts = {path.name: path.read_text(encoding="utf-8") for path in parts_of_package() if path.suffix == ".py"}
-        self.assertLessEqual({"__init__.py", "errors.py", "lists.py", "gates.py"}, set(texts))
+        self.assertLessEqual(FILES, set(texts))
         self.assertEqual(package_faults(texts), [])
 
     def test_nothing_else_lies_in_it(self):
@@ -422,6 +585,12 @@ def told(numbers, least=0):
         found = NAMES["a"]
     except KeyError:
         return None
+    try:
+        first = int(found[0])
+    except ValueError as e:
+        raise Refused("no figure") from e
+    if len(set(numbers) - set(found)) == first and set(found) == set(numbers) and isinstance(found, (tuple, Box)):
+        return sorted(numbers, key=lambda number: -number, reverse=True)
     return ["-".join([str(number) for number in found if number]), sorted(set(numbers)), list(kept.items())]
 """
 OTHER = "class Refused(ValueError):\n    pass\n"
@@ -470,6 +639,7 @@ BROKEN = (
     ("L12", "_A = 1\n"),
     ("L12", "def f(a):\n    return a.__dict__\n"),
     ("L13", "def f():\n    a = {1, 2, 3}\n    return len(a)\n"),
+    ("L13", "def f(a):\n    return [lambda b: a, lambda b: b]\n"),
     ("L14", "# \u00e9\n"),
     ("L14", "def f():\n\treturn 1\n"),
     ("L15", "A = 1\nA = 2\n"),
@@ -478,35 +648,58 @@ BROKEN = (
     ("L15", "A = []\n\n\ndef f(b):\n    A.append(b)\n"),
     ("L15", "A = {}\n\n\ndef f(b):\n    A[b] = 1\n"),
     ("L15", "A = [1]\n\n\ndef f():\n    return A\n"),
+    ("L15", "A = [1]\n\n\ndef g(b):\n    return b\n\n\ndef f():\n    return g(A)\n"),
+    ("L15", "A = {}\n\n\ndef f():\n    b = A\n    return len(b)\n"),
+    ("L15", "A = [1]\n\n\ndef f(b):\n    return (b, A)\n"),
     ("L15", "def f(id):\n    return 1\n"),
     ("L15", "def f(a):\n    max = a\n    return max\n"),
     ("L16", "from turncoins.other import Nothing\n"),
     ("L16", "from turncoins.nowhere import Refused\n"),
     ("L17", "# the type of it\n"),
     ("L17", "def f(a):\n    return a.elements\n"),
+    ("L17", "def f(os):\n    return os\n"),
+    ("L17", "def f(a):\n    return a.tb_frame\n"),
+    ("L18", "class A:\n    pass\n\n\ndef f():\n    return [A]\n"),
+    ("L18", "class A:\n    pass\n\n\ndef f(a):\n    A.many = a\n"),
     ("L18", "class A:\n    def b(self):\n        return 1\n\n    def b(self):\n        return 2\n"),
     ("L18", "class A:\n    def b(self):\n        return 1\n\n\n"
             "class C:\n    def __init__(self):\n        self.b = 1\n"),
     ("L19", "def f(a):\n    try:\n        return a[0]\n    except Exception:\n        return 1\n"),
     ("L19", "def f(a):\n    try:\n        return a[0]\n    except:\n        return 1\n"),
     ("L19", "def f():\n    raise ValueError\n"),
+    ("L19", "def g(a):\n    return a\n\n\ndef f(a):\n    try:\n        return g(a)\n    except ValueError:\n"
+            "        return 1\n"),
+    ("L19", "def f(a):\n    try:\n        return a[0] * 2\n    except IndexError:\n        return 1\n"),
+    ("L19", "def f(a, b):\n    try:\n        return a[0]\n    except KeyError:\n        raise ValueError(1) from b\n"),
     ("L20", "def f(a, b):\n    return a is b\n"),
     ("L21", "def f(a: int):\n    return a\n"),
     ("L21", "def f(a):\n    b: int = a\n    return b\n"),
     ("L22", "def f():\n    return len\n"),
+    ("L22", "def f(a):\n    return sorted(a, key=repr)\n"),
+    ("L22", "def f(a, b):\n    return sorted(a, reverse=b)\n"),
+    ("L22", "def f(a):\n    return int(a, base=2)\n"),
+    ("L22", "def f(a):\n    return a.split(sep=',')\n"),
+    ("L22", "def f(a, b):\n    return isinstance(a, b)\n"),
     ("L23", "def f(a):\n    b = zip(a, a)\n    return list(b)\n"),
     ("L23", "def f(a):\n    b = a.items()\n    return list(b)\n"),
     ("L23", "def f(a):\n    for b in a:\n        a.append(b)\n"),
     ("L23", "def f(a):\n    for b, c in enumerate(a):\n        a[b] = c\n"),
     ("L24", "def f(a):\n    b = set(a)\n    return len(b)\n"),
+    ("L24", "def f(a, b):\n    c = set(a) - set(b)\n    return len(c)\n"),
+    ("L24", "def f(a):\n    return sorted(set(a), key=len)\n"),
     ("L25", "def f(a):\n    a.sort()\n"),
     ("L25", "def f(a):\n    return a.isprintable()\n"),
     ("L26", "def f(a):\n    a.values = 1\n"),
+    ("L26", "def f(a):\n    a.real = 1\n"),
+    ("L26", "class A:\n    def casefold(self):\n        return 1\n"),
+    ("L27", "A = " + "1" * 901 + "\n"),
     ("L27", "def f(n):\n    return 2 ** n\n"),
     ("L27", "def f():\n    return 2 ** 65\n"),
     ("L27", "def f():\n    return 'a%b'\n"),
     ("L27", "def f():\n    return '\\x41'\n"),
     ("L28", "class A:\n    def __init__(self):\n        return None\n"),
+    ("L28", "class A:\n    def __eq__(self, other):\n        self.many = 1\n        return True\n"),
+    ("L28", "class A:\n    def __len__(self):\n        return self.many + 1\n"),
 )
 
 
