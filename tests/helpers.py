@@ -132,8 +132,19 @@ def plain_turned(numbers, gate):
     return plain_least(raw_turned(numbers, gate))
 
 
+def raw_turned_by(numbers, gates):
+    for gate in gates:
+        numbers = raw_turned(numbers, gate)
+    return numbers
+
+
 def unit_lists(coins):
     return [[1 if place == at else 0 for place in range(2 ** coins)] for at in range(2 ** coins)]
+
+
+def whole_turning(coins, gates):
+    """What a row of gates makes of each list with a single 1, one behind the other, but for what all are times."""
+    return plain_least([number for numbers in unit_lists(coins) for number in raw_turned_by(numbers, gates)])
 
 
 def all_rows(coins):
@@ -236,6 +247,11 @@ def free_rows(coins, many, seed=0):
     return kept
 
 
+def full_sets(seeds=4):
+    """As many free rows as coins, of one to six coins."""
+    return [free_rows(coins, coins, seed) for coins in COIN_COUNTS for seed in range(seeds)]
+
+
 def multiplied_with_one_another(rows, seed=0):
     """Other free rows with the same products: some multiplied with others, and in another order."""
     numbers = Numbers(seed)
@@ -282,6 +298,82 @@ def list_kept_by(rows):
 
 def keeps(row, numbers):
     return plain_laid(numbers, row) == numbers
+
+
+def deeds(coins, many, seed):
+    """Gates, and pairs of an even row and a wish, in whatever order."""
+    numbers = Numbers(100 * seed + coins)
+    gates = all_gates(coins)
+    drawn = []
+    while len(drawn) < many:
+        row = any_row(coins, numbers)
+        if numbers.below(3) < 2:
+            drawn.append(("gate", numbers.choice(gates)))
+        elif plain_even(row):
+            drawn.append(("look", (row, numbers.below(2))))
+    return drawn
+
+
+def rows_that_keep(numbers):
+    """All rows that keep a list, tried one by one: two to the power of the coins many just where it is told by rows."""
+    places = range(len(numbers))
+    sizes = [abs(number) for number in numbers]
+    found = []
+    for xs in places:
+        if [sizes[place ^ xs] for place in places] == sizes:
+            for zs in places:
+                times = [-1 if bin(place & zs).count("1") % 2 == 1 else 1 for place in places]
+                found += [(sign, xs, zs) for sign in (1, -1)
+                          if all(numbers[place ^ xs] == sign * times[place] * numbers[place] for place in places)]
+    return found
+
+
+@lru_cache(maxsize=None)
+def lists_told_by_rows(coins):
+    """All lists, in least form, that gates make of the first list, found gate by gate; for one to three coins."""
+    found = {tuple(unit_lists(coins)[0]): True}
+    coming = list(found)
+    while coming:
+        ends = [tuple(plain_turned(list(numbers), gate)) for numbers in coming for gate in all_gates(coins)]
+        coming = [numbers for numbers in dict.fromkeys(ends) if numbers not in found]
+        found.update(dict.fromkeys(coming, True))
+    return tuple(found)
+
+
+def no_rows():
+    """Lists of rows that are refused with NoRows: each with one fault, and some with several."""
+    wrong = [[]]
+    for many in (7, 8, 12):
+        wrong += [[(1, 0, 2 ** coin) for coin in range(many)], [(1, 0, 1)] * many, [(1, 0, 0)] * many,
+                  [(1, 1, 1)] * many, [(5, -1, 3)] * many]
+    for coins in COIN_COUNTS:
+        good = [(1, 0, 2 ** coin) for coin in range(coins)]
+        beyond = 2 ** coins
+        faults = [(sign, 0, beyond - 1) for sign in (0, 2, -2, GREAT)] + [(0, 0, 0), (3, 1, 1)]
+        faults += [(1, bits, 0) for bits in (beyond, beyond + 1, 2 * beyond, -1, -2, 10 ** 40, -GREAT)]
+        faults += [(-1, 0, bits) for bits in (beyond, beyond + 1, 2 * beyond, -1, -2, 10 ** 40, -GREAT)]
+        faults += [(1, beyond, beyond), (1, -1, -1), (1, beyond + 1, 1)]
+        for fault in faults:
+            wrong += [good[:at] + [fault] + good[at + 1:] for at in range(coins)]
+    # NoRows comes ahead of NotFree, wherever the rows are that don't stand free.
+    wrong += [[(1, 1, 1), (1, 0, 4)], [(1, 1, 0), (1, 0, 1), (2, 0, 4)], [(1, 0, 0), (1, 8, 0), (1, 0, 1)],
+              [(1, 1, 0), (1, 1, 0), (1, 0, -1)], [(1, 2, 2)], [(1, 2, 0), (1, 1, 1), (0, 1, 1)]]
+    return wrong
+
+
+NOT_FREE = (
+    ([(1, 1, 1)], [0]),
+    ([(-1, 0, 0)], [0]),
+    ([(1, 0, 0)], [0]),
+    ([(1, 0, 1), (1, 2, 2)], [1]),
+    ([(1, 1, 0), (1, 0, 1)], [0, 1]),
+    ([(1, 1, 0), (1, 1, 0)], [0, 1]),
+    ([(1, 1, 0), (-1, 1, 0)], [0, 1]),
+    ([(1, 2, 0), (1, 1, 0), (1, 0, 1)], [1, 2]),
+    ([(1, 2, 0), (1, 1, 0), (-1, 3, 0)], [0, 1, 2]),
+    ([(1, 1, 0), (1, 0, 1), (1, 4, 4)], [2]),
+    ([(1, 0, 0), (1, 2, 0), (1, 0, 2)], [1, 2]),
+    ([(1, 0, 1), (1, 0, 2), (1, 0, 4), (1, 0, 8), (1, 0, 16), (1, 0, 31)], [0, 1, 2, 3, 4, 5]))
 
 
 class Odd:

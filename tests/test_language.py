@@ -12,7 +12,8 @@ import unittest
 from pathlib import Path
 
 PACKAGE = Path(__file__).resolve().parent.parent / "turncoins"
-FILES = {"__init__.py", "errors.py", "lists.py", "gates.py", "rows.py", "looks.py", "spans.py", "shorts.py"}
+FILES = {"__init__.py", "errors.py", "lists.py", "gates.py", "rows.py", "looks.py", "spans.py", "shorts.py",
+         "bridges.py", "ties.py", "images.py", "making.py"}
 
 CALLED_NAMES = """len range enumerate zip min max sum abs sorted reversed int str bool list tuple dict set frozenset
     isinstance ord repr any all divmod""".split()

@@ -1,59 +1,18 @@
 import unittest
 from itertools import permutations
 
-from tests.helpers import (COIN_COUNTS, GREAT, all_gates, all_rows, free_rows, is_least_form, keeps, list_kept_by,
-                           minus, multiplied_with_one_another, no_gates, no_letters, plain_agree, plain_even,
-                           plain_laid, plain_least, plain_least_rows, plain_products, plain_turned, rows_to_try,
-                           stands_free)
+from tests.helpers import (COIN_COUNTS, GREAT, NOT_FREE, all_gates, all_rows, free_rows, full_sets, is_least_form,
+                           keeps, list_kept_by, minus, multiplied_with_one_another, no_gates, no_letters, no_rows,
+                           plain_agree, plain_even, plain_laid, plain_least, plain_least_rows, plain_products,
+                           plain_turned, rows_to_try, stands_free)
 from turncoins.errors import NoGate, NoLook, NoRows, NotFree
 from turncoins.lists import first_list
 from turncoins.looks import looked
 from turncoins.shorts import checked, first_rows, rows_looked, rows_turned
 
 
-def full_sets(seeds=4):
-    """As many free rows as coins, of one to six coins."""
-    return [free_rows(coins, coins, seed) for coins in COIN_COUNTS for seed in range(seeds)]
-
-
 def least_form(rows):
     return plain_least_rows(rows, len(rows))
-
-
-def no_rows():
-    """Lists of rows that are refused with NoRows: each with one fault, and some with several."""
-    wrong = [[]]
-    for many in (7, 8, 12):
-        wrong += [[(1, 0, 2 ** coin) for coin in range(many)], [(1, 0, 1)] * many, [(1, 0, 0)] * many,
-                  [(1, 1, 1)] * many, [(5, -1, 3)] * many]
-    for coins in COIN_COUNTS:
-        good = [(1, 0, 2 ** coin) for coin in range(coins)]
-        beyond = 2 ** coins
-        faults = [(sign, 0, beyond - 1) for sign in (0, 2, -2, GREAT)] + [(0, 0, 0), (3, 1, 1)]
-        faults += [(1, bits, 0) for bits in (beyond, beyond + 1, 2 * beyond, -1, -2, 10 ** 40, -GREAT)]
-        faults += [(-1, 0, bits) for bits in (beyond, beyond + 1, 2 * beyond, -1, -2, 10 ** 40, -GREAT)]
-        faults += [(1, beyond, beyond), (1, -1, -1), (1, beyond + 1, 1)]
-        for fault in faults:
-            wrong += [good[:at] + [fault] + good[at + 1:] for at in range(coins)]
-    # NoRows comes ahead of NotFree, wherever the rows are that don't stand free.
-    wrong += [[(1, 1, 1), (1, 0, 4)], [(1, 1, 0), (1, 0, 1), (2, 0, 4)], [(1, 0, 0), (1, 8, 0), (1, 0, 1)],
-              [(1, 1, 0), (1, 1, 0), (1, 0, -1)], [(1, 2, 2)], [(1, 2, 0), (1, 1, 1), (0, 1, 1)]]
-    return wrong
-
-
-NOT_FREE = (
-    ([(1, 1, 1)], [0]),
-    ([(-1, 0, 0)], [0]),
-    ([(1, 0, 0)], [0]),
-    ([(1, 0, 1), (1, 2, 2)], [1]),
-    ([(1, 1, 0), (1, 0, 1)], [0, 1]),
-    ([(1, 1, 0), (1, 1, 0)], [0, 1]),
-    ([(1, 1, 0), (-1, 1, 0)], [0, 1]),
-    ([(1, 2, 0), (1, 1, 0), (1, 0, 1)], [1, 2]),
-    ([(1, 2, 0), (1, 1, 0), (-1, 3, 0)], [0, 1, 2]),
-    ([(1, 1, 0), (1, 0, 1), (1, 4, 4)], [2]),
-    ([(1, 0, 0), (1, 2, 0), (1, 0, 2)], [1, 2]),
-    ([(1, 0, 1), (1, 0, 2), (1, 0, 4), (1, 0, 8), (1, 0, 16), (1, 0, 31)], [0, 1, 2, 3, 4, 5]))
 
 
 class FirstRows(unittest.TestCase):

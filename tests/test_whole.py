@@ -3,27 +3,16 @@
 import unittest
 from fractions import Fraction
 
-from tests.helpers import (COIN_COUNTS, Numbers, all_gates, any_row, free_rows, is_least_form, keeps, list_kept_by,
-                           no_letters, plain_even, plain_least, plain_turned)
+from tests.helpers import (COIN_COUNTS, deeds, free_rows, is_least_form, keeps, list_kept_by, lists_to_try, no_letters,
+                           plain_least, plain_turned, row_of_gates)
+from turncoins.bridges import list_of, overlap, rows_of, rows_overlap
 from turncoins.gates import turned, turned_by
+from turncoins.images import images, parting, start_list
 from turncoins.lists import first_list, least
 from turncoins.looks import chance, looked
+from turncoins.making import gates_of
 from turncoins.rows import laid, moved
 from turncoins.shorts import checked, first_rows, rows_looked, rows_turned
-
-
-def deeds(coins, many, seed):
-    """Gates, and pairs of an even row and a wish, in whatever order."""
-    numbers = Numbers(100 * seed + coins)
-    gates = all_gates(coins)
-    drawn = []
-    while len(drawn) < many:
-        row = any_row(coins, numbers)
-        if numbers.below(3) < 2:
-            drawn.append(("gate", numbers.choice(gates)))
-        elif plain_even(row):
-            drawn.append(("look", (row, numbers.below(2))))
-    return drawn
 
 
 class BesideOneAnother(unittest.TestCase):
@@ -36,6 +25,7 @@ class BesideOneAnother(unittest.TestCase):
         for row in rows:
             self.assertTrue(keeps(row, numbers), (numbers, rows))
             self.assertEqual(laid(numbers, row), numbers)
+        self.assertEqual((list_of(rows), rows_of(numbers)), (numbers, rows))
 
     def check_look(self, numbers, rows, row, wish):
         by_list, by_rows = looked(numbers, row, wish), rows_looked(rows, row, wish)
@@ -94,6 +84,25 @@ class BesideOneAnother(unittest.TestCase):
             for one in ends:
                 for other in ends:
                     self.assertEqual(one[0] == other[0], one[1] == other[1])
+                    self.assertEqual(overlap(one[0], other[0]), rows_overlap(one[1], other[1]))
+                    self.assertEqual(overlap(one[0], other[0]) == (1, 1), one[0] == other[0])
+
+    def test_gates_do_the_same_just_where_they_move_the_same_rows_to_the_same(self):
+        for coins in COIN_COUNTS:
+            rows = [row_of_gates(coins, 3 + seed, seed) for seed in range(6)]
+            rows += [gates_of(images(coins, gates)) for gates in rows] + [[]]
+            for one in rows:
+                for other in rows:
+                    start = parting(coins, one, other)
+                    moved_alike = images(coins, one) == images(coins, other)
+                    self.assertEqual(start is None, moved_alike)
+                    if moved_alike:
+                        for numbers in lists_to_try(coins)[4:8]:
+                            self.assertEqual(turned_by(numbers, one), turned_by(numbers, other))
+                    else:
+                        ends = [turned_by(start_list(start), gates) for gates in (one, other)]
+                        self.assertNotEqual(ends[0], ends[1])
+                        self.assertNotEqual(overlap(ends[0], ends[1]), (1, 1))
 
     def test_moved_one_by_one_or_all_together(self):
         for coins in COIN_COUNTS:

@@ -91,9 +91,7 @@ def moved_by_swap(row, one, other):
     return (row[0], bits_swapped(row[1], one, other), bits_swapped(row[2], one, other))
 
 
-def moved(row, gate):
-    # A row doesn't tell how many coins there are, so all that there may be count.
-    check_gates([gate], MOST_COINS)
+def row_behind(row, gate):
     word = gate[0]
     if word == "mix":
         return moved_by_mix(row, gate[1])
@@ -106,3 +104,15 @@ def moved(row, gate):
     if word == "meet":
         return moved_by_meet(row, gate[1], gate[2])
     return moved_by_swap(row, gate[1], gate[2])
+
+
+def rows_moved(rows, gates):
+    for gate in gates:
+        rows = [row_behind(row, gate) for row in rows]
+    return rows
+
+
+def moved(row, gate):
+    # A row doesn't tell how many coins there are, so all that there may be count.
+    check_gates([gate], MOST_COINS)
+    return row_behind(row, gate)

@@ -4,7 +4,7 @@ from turncoins.errors import NoRows
 from turncoins.gates import check_gates
 from turncoins.lists import MOST_COINS
 from turncoins.looks import check_look, fraction, sign_told
-from turncoins.rows import agree, is_row, moved, product
+from turncoins.rows import agree, is_row, product, rows_moved
 from turncoins.spans import least_rows, made_of
 
 
@@ -31,7 +31,7 @@ def checked(rows):
 def rows_turned(rows, gate):
     standing = checked(rows)
     check_gates([gate], len(standing))
-    return least_rows([moved(row, gate) for row in standing])
+    return least_rows(rows_moved(standing, [gate]))
 
 
 def told_for_sure(rows, row):
