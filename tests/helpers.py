@@ -147,6 +147,22 @@ def whole_turning(coins, gates):
     return plain_least([number for numbers in unit_lists(coins) for number in raw_turned_by(numbers, gates)])
 
 
+def all_tables_by_gates(coins, images):
+    """A dict from the images of all rows of gates there are to such a row, found gate by gate; for one or two coins."""
+    found = {tuple(images(coins, [])): []}
+    coming = list(found)
+    while coming:
+        further = []
+        for table in coming:
+            for gate in all_gates(coins):
+                other = tuple(images(coins, found[table] + [gate]))
+                if other not in found:
+                    found[other] = found[table] + [gate]
+                    further.append(other)
+        coming = further
+    return found
+
+
 def all_rows(coins):
     return [(sign, xs, zs) for sign in (1, -1) for xs in range(2 ** coins) for zs in range(2 ** coins)]
 

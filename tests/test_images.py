@@ -1,8 +1,8 @@
 import unittest
 from itertools import product
 
-from tests.helpers import (COIN_COUNTS, Numbers, all_gates, lists_to_try, minus, no_gates, plain_laid, plain_least,
-                           raw_turned_by, row_of_gates, unit_lists, whole_turning)
+from tests.helpers import (COIN_COUNTS, Numbers, all_gates, all_tables_by_gates, lists_to_try, minus, no_gates,
+                           plain_laid, plain_least, raw_turned_by, row_of_gates, unit_lists, whole_turning)
 from turncoins.errors import NoGate
 from turncoins.gates import turned_by
 from turncoins.images import images, parting, start_list
@@ -203,6 +203,14 @@ class Parting(unittest.TestCase):
                     seen[self.check(coins, [one], [other])] += 1
         # Each gate and itself, and meets and swaps the other way round.
         self.assertEqual(seen[True], 3 + (12 + 4) + (27 + 12), seen)
+
+    def test_all_that_gates_do_to_one_and_two_coins(self):
+        for coins, many in ((1, 8), (2, 1152)):
+            rows = list(all_tables_by_gates(coins, images).values())
+            self.assertEqual((len(rows), rows[0]), (many, []))
+            for gates in rows[1:]:
+                self.check_parted(coins, gates, [])
+                self.check_same(coins, gates + gates[::-1], [])
 
     def test_drawn_rows(self):
         seen = {True: 0, False: 0}

@@ -1,8 +1,9 @@
 import unittest
 from itertools import product
 
-from tests.helpers import (COIN_COUNTS, GREAT, Numbers, all_gates, minus, plain_agree, plain_even, plain_laid,
-                           plain_product, raw_turned_by, row_of_gates, unit_lists, whole_turning)
+from tests.helpers import (COIN_COUNTS, GREAT, Numbers, all_gates, all_tables_by_gates, minus, plain_agree,
+                           plain_even, plain_laid, plain_product, raw_turned_by, row_of_gates, unit_lists,
+                           whole_turning)
 from turncoins.errors import NoTable
 from turncoins.images import images, parting
 from turncoins.making import gates_of
@@ -42,22 +43,6 @@ def tables(seeds):
     return [drawn_table(coins, seed) for coins in COIN_COUNTS for seed in range(seeds)]
 
 
-def all_tables_by_gates(coins):
-    """The images of all rows of gates there are, found gate by gate."""
-    found = {tuple(images(coins, [])): []}
-    coming = list(found)
-    while coming:
-        further = []
-        for table in coming:
-            for gate in all_gates(coins):
-                other = tuple(images(coins, found[table] + [gate]))
-                if other not in found:
-                    found[other] = found[table] + [gate]
-                    further.append(other)
-        coming = further
-    return found
-
-
 class GatesOf(unittest.TestCase):
     def check(self, table):
         coins = len(table) // 2
@@ -88,7 +73,7 @@ class GatesOf(unittest.TestCase):
 
     def test_all_tables_of_one_and_two_coins(self):
         for coins, many in ((1, 8), (2, 1152)):
-            found = all_tables_by_gates(coins)
+            found = all_tables_by_gates(coins, images)
             self.assertEqual(len(found), many)
             for table in found:
                 self.check(list(table))
