@@ -330,6 +330,33 @@ def deeds(coins, many, seed):
     return drawn
 
 
+class PlainCoins:
+    """Coins told by a list alone, turned and looked at by the words of points 5 and 10."""
+
+    def __init__(self, coins):
+        self.coins = coins
+        self.numbers = unit_lists(coins)[0]
+
+    def turn(self, gates):
+        for gate in gates:
+            self.numbers = plain_turned(self.numbers, gate)
+
+    def chance(self, row):
+        sent = plain_laid(self.numbers, row)
+        whole = sum(a * a for a in self.numbers)
+        return Fraction(whole + sum(a * b for a, b in zip(self.numbers, sent)), 2 * whole)
+
+    def look(self, row, wish):
+        chances = (self.chance(row), 1 - self.chance(row))
+        told = wish if chances[wish] > 0 else 1 - wish
+        sent = plain_laid(self.numbers, row)
+        self.numbers = plain_least([a - b if told else a + b for a, b in zip(self.numbers, sent)])
+        return told, chances[told]
+
+    def ties(self, part):
+        return rank(table_of(self.numbers, part)).bit_length() - 1
+
+
 def rows_that_keep(numbers):
     """All rows that keep a list, tried one by one: two to the power of the coins many just where it is told by rows."""
     places = range(len(numbers))
@@ -354,6 +381,103 @@ def lists_told_by_rows(coins):
         coming = [numbers for numbers in dict.fromkeys(ends) if numbers not in found]
         found.update(dict.fromkeys(coming, True))
     return tuple(found)
+
+
+def bits_at(number, places):
+    """The bits of a number at so many places, put side by side."""
+    return sum((number >> place & 1) << at for at, place in enumerate(places))
+
+
+def table_of(numbers, part):
+    """The list as a table: a line for each way in which the part's coins may lie, a column for each of the others'."""
+    coins = len(numbers).bit_length() - 1
+    inside = [coin for coin in range(coins) if part >> coin & 1]
+    outside = [coin for coin in range(coins) if not part >> coin & 1]
+    table = [[0] * 2 ** len(outside) for line in range(2 ** len(inside))]
+    for place, number in enumerate(numbers):
+        table[bits_at(place, inside)][bits_at(place, outside)] = number
+    return table
+
+
+def rank(table):
+    lines = [[Fraction(number) for number in line] for line in table]
+    found = 0
+    for column in range(len(lines[0])):
+        leads = [line for line in lines[found:] if line[column] != 0]
+        if leads:
+            lead = leads[0]
+            others = [line for line in lines[found:] if line is not lead]
+            lines[found:] = [lead] + [[a - b * line[column] / lead[column] for a, b in zip(line, lead)]
+                                      for line in others]
+            found += 1
+    return found
+
+
+LETTER_BITS = {".": (0, 0), "x": (1, 0), "z": (0, 1), "y": (1, 1)}
+BITS_LETTER = {bits: letter for letter, bits in LETTER_BITS.items()}
+ALL_SIGNS = "".join(chr(code) for code in range(32, 127)) + "\n"
+
+
+def letters_of(row, coins):
+    return "".join(BITS_LETTER[row[1] >> coin & 1, row[2] >> coin & 1] for coin in range(coins))
+
+
+def row_text(row, coins):
+    return ("+" if row[0] == 1 else "-") + letters_of(row, coins)
+
+
+def row_from(text):
+    bits = [LETTER_BITS[letter] for letter in text[1:]]
+    return ({"+": 1, "-": -1}[text[0]], sum(x << coin for coin, (x, z) in enumerate(bits)),
+            sum(z << coin for coin, (x, z) in enumerate(bits)))
+
+
+def rows_from_texts(texts):
+    return [row_from(text) for text in texts.split()]
+
+
+def gates_text(gates):
+    return "; ".join(" ".join(str(part) for part in gate) for gate in gates)
+
+
+def with_one_sign_otherwise(text, signs=ALL_SIGNS):
+    """All texts that come of one by a sign left out, put in or changed, at any place."""
+    left_out = [text[:at] + text[at + 1:] for at in range(len(text))]
+    put_in = [text[:at] + sign + text[at:] for at in range(len(text) + 1) for sign in signs]
+    changed = [text[:at] + sign + text[at + 1:] for at in range(len(text)) for sign in signs]
+    return [other for other in dict.fromkeys(left_out + put_in + changed) if other != text]
+
+
+@lru_cache(maxsize=None)
+def turns_with(coins, many):
+    """All wrong turns with at most so many letters, with the sign 1, letter by letter."""
+    texts = ["".join(signs) for signs in product(".xzy", repeat=coins)]
+    return tuple(row_from("+" + text) for text in texts if coins - text.count(".") <= many)
+
+
+def letters_many(row):
+    return bin(row[1] | row[2]).count("1")
+
+
+@lru_cache(maxsize=None)
+def letters_by_bits(coins):
+    return {(xs, zs): letters_of((1, xs, zs), coins) for xs in range(2 ** coins) for zs in range(2 ** coins)}
+
+
+def plain_marks(checks, turn, coins):
+    """Two rows disagree where an odd number of coins have letters in both, and unlike ones."""
+    texts = letters_by_bits(coins)
+    letters = texts[turn[1:]]
+    marks = 0
+    for at, check in enumerate(checks):
+        unlike = [one for one, other in zip(letters, texts[check[1:]]) if "." != one != other != "."]
+        marks += (len(unlike) % 2) << at
+    return marks
+
+
+def plain_harmless(checks):
+    """The bits of all harmless wrong turns: those of all products of the checks, that of none of them too."""
+    return {made[1:] for made in plain_products(checks)}
 
 
 def no_rows():

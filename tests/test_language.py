@@ -13,7 +13,7 @@ from pathlib import Path
 
 PACKAGE = Path(__file__).resolve().parent.parent / "turncoins"
 FILES = {"__init__.py", "errors.py", "lists.py", "gates.py", "rows.py", "looks.py", "spans.py", "shorts.py",
-         "bridges.py", "ties.py", "images.py", "making.py"}
+         "bridges.py", "ties.py", "images.py", "making.py", "codes.py", "texts.py", "tellings.py", "desk.py"}
 
 CALLED_NAMES = """len range enumerate zip min max sum abs sorted reversed int str bool list tuple dict set frozenset
     isinstance ord repr any all divmod""".split()
@@ -334,11 +334,18 @@ def calls(file, own_methods, own_values):
             walked = True
         above = file.parents[node]
         if walked and not (isinstance(above, (ast.For, ast.comprehension)) and above.iter is node):
-            if not (isinstance(above, ast.Call) and (is_name(above.func, *WALKERS) or is_join(above.func))):
+            if not (isinstance(above, ast.Call) and walks_first(above, node)):
                 yield "L23", node.lineno
         if is_name(node.func, "set", "frozenset") and not isinstance(above, (ast.Compare, ast.BinOp)):
             if not (isinstance(above, ast.Call) and is_name(above.func, "sorted", "len")):
                 yield "L24", node.lineno
+
+
+def walks_first(call, node):
+    """Whether a call walks what stands in it on the spot: the first thing in it, and in min and max the only one."""
+    if is_name(call.func, "min", "max"):
+        return call.args == [node]
+    return (is_name(call.func, *WALKERS) or is_join(call.func)) and call.args[:1] == [node]
 
 
 def is_join(node):
@@ -367,13 +374,13 @@ def changed_while_walked(file):
             if is_name(walked.func, "list", "tuple", "dict", "sorted", "range"):
                 inner = None
             walked = inner
-        if isinstance(walked, ast.Name):
+        if isinstance(walked, (ast.Name, ast.Attribute)):
+            told = ast.unparse(walked)
             for node in [part for line in loop.body for part in ast.walk(line)]:
-                if isinstance(node, ast.Attribute) and node.attr in CHANGING and is_name(node.value, walked.id):
+                changes = isinstance(node, ast.Attribute) and node.attr in CHANGING
+                stores = isinstance(node, ast.Subscript) and isinstance(node.ctx, ast.Store)
+                if (changes or stores) and ast.unparse(node.value) == told:
                     yield "L23", node.lineno
-                if isinstance(node, ast.Subscript) and isinstance(node.ctx, ast.Store):
-                    if is_name(node.value, walked.id):
-                        yield "L23", node.lineno
 
 
 def lambdas_on_one_line(file):
@@ -477,6 +484,9 @@ def sets_kept(file):
         sized = isinstance(above, ast.Call) and is_name(above.func, "sorted", "len") and not above.keywords
         if not sized and not isinstance(above, ast.Compare):
             yield "L24", node.lineno
+    for node in file.nodes(ast.Set):
+        if not isinstance(file.parents[node], ast.Compare):
+            yield "L24", node.lineno
 
 
 def names_of_pythons_values(file):
@@ -510,6 +520,12 @@ def methods_that_show(file):
                 changes = isinstance(node, ast.Attribute) and node.attr in CHANGING
                 if stores or changes or isinstance(node, ast.AugAssign):
                     yield "L28", node.lineno
+                if isinstance(node, ast.Return) and part.name in ("__repr__", "__str__"):
+                    shown = node.value.func if isinstance(node.value, ast.Call) else None
+                    text = isinstance(node.value, ast.Constant) and isinstance(node.value.value, str)
+                    if not (text or isinstance(node.value, ast.JoinedStr) or is_name(shown, "str", "repr")
+                            or is_join(shown)):
+                        yield "L28", node.lineno
                 if isinstance(node, ast.Return) and part.name == "__len__":
                     if not (isinstance(node.value, ast.Constant)
                             or isinstance(node.value, ast.Call) and is_name(node.value.func, "len")):
@@ -530,6 +546,8 @@ def package_faults(texts):
     own_values = [node.attr for file in files for node in file.nodes(ast.Attribute) if isinstance(node.ctx, ast.Store)]
     own_classes = [node.name for file in files for node in file.classes]
     found = list(drawn_in_a_ring(files))
+    found += [("L16", file.name, 1) for file in files if file.name == "__init__.py"
+              for name in file.tops + file.imported if name + ".py" in texts]
     found += [("L18", "", 0) for name in own_methods if name in own_values]
     for file in files:
         for rule in (signs_and_size, file_name, top_of_module, functions, classes, statements, expressions,
@@ -685,6 +703,14 @@ BROKEN = (
     ("L23", "def f(a):\n    b = a.items()\n    return list(b)\n"),
     ("L23", "def f(a):\n    for b in a:\n        a.append(b)\n"),
     ("L23", "def f(a):\n    for b, c in enumerate(a):\n        a[b] = c\n"),
+    ("L23", "def f(a):\n    return max(range(a), a)\n"),
+    ("L23", "def f(a):\n    return sum(a, range(3))\n"),
+    ("L23", "class A:\n    def __init__(self):\n        self.kept = {}\n\n"
+            "    def f(self):\n        for a in self.kept:\n            self.kept.pop(a)\n"),
+    ("L23", "class A:\n    def __init__(self):\n        self.kept = {}\n\n"
+            "    def f(self):\n        for a, b in self.kept.items():\n            self.kept[a] = 1\n"),
+    ("L24", "def f():\n    a = {1, 2}\n    return len(a)\n"),
+    ("L24", "def f():\n    return [a for a in {1, 2}]\n"),
     ("L24", "def f(a):\n    b = set(a)\n    return len(b)\n"),
     ("L24", "def f(a, b):\n    c = set(a) - set(b)\n    return len(c)\n"),
     ("L24", "def f(a):\n    return sorted(set(a), key=len)\n"),
@@ -701,6 +727,8 @@ BROKEN = (
     ("L28", "class A:\n    def __init__(self):\n        return None\n"),
     ("L28", "class A:\n    def __eq__(self, other):\n        self.many = 1\n        return True\n"),
     ("L28", "class A:\n    def __len__(self):\n        return self.many + 1\n"),
+    ("L28", "class A:\n    def __repr__(self):\n        return self.name\n"),
+    ("L28", "class A:\n    def __str__(self):\n        return 'a' + 'b'\n"),
 )
 
 
@@ -724,6 +752,10 @@ class Checker(unittest.TestCase):
         for name in ("test.py", "len.py", "test_a.py", "enum.py"):
             self.assertIn("L14", self.rules(OTHER, name))
         self.assertIn("L12", self.rules(OTHER, "_plain.py"))
+
+    def test_names_of_the_package_itself(self):
+        self.assertIn("L16", self.rules("other = 1\n", "__init__.py"))
+        self.assertNotIn("L16", self.rules("others = 1\n", "__init__.py"))
 
     def test_files_that_draw_from_one_another(self):
         one = "from turncoins.b import g\n\n\ndef f():\n    return g()\n"

@@ -1,41 +1,10 @@
 import unittest
-from fractions import Fraction
 
 from tests.helpers import (COIN_COUNTS, NOT_FREE, deeds, full_sets, is_least_form, list_kept_by,
-                           multiplied_with_one_another, no_rows, plain_products)
+                           multiplied_with_one_another, no_rows, plain_products, rank, table_of)
 from turncoins.errors import NoRows, NotFree
 from turncoins.shorts import checked, first_rows, rows_looked, rows_turned
 from turncoins.ties import ties
-
-
-def bits_at(number, places):
-    """The bits of a number at so many places, put side by side."""
-    return sum((number >> place & 1) << at for at, place in enumerate(places))
-
-
-def table_of(numbers, part):
-    """The list as a table: a line for each way in which the part's coins may lie, a column for each of the others'."""
-    coins = len(numbers).bit_length() - 1
-    inside = [coin for coin in range(coins) if part >> coin & 1]
-    outside = [coin for coin in range(coins) if not part >> coin & 1]
-    table = [[0] * 2 ** len(outside) for line in range(2 ** len(inside))]
-    for place, number in enumerate(numbers):
-        table[bits_at(place, inside)][bits_at(place, outside)] = number
-    return table
-
-
-def rank(table):
-    lines = [[Fraction(number) for number in line] for line in table]
-    found = 0
-    for column in range(len(lines[0])):
-        leads = [line for line in lines[found:] if line[column] != 0]
-        if leads:
-            lead = leads[0]
-            others = [line for line in lines[found:] if line is not lead]
-            lines[found:] = [lead] + [[a - b * line[column] / lead[column] for a, b in zip(line, lead)]
-                                      for line in others]
-            found += 1
-    return found
 
 
 def rows_to_tie(seeds):
